@@ -144,7 +144,8 @@ func made(t *testing.T, size int, key []byte) *blake.Hash {
 // edges are lengths of nothing, of one byte, and around whole blocks.
 var edges = []int{0, 1, 2, 63, 64, 65, 127, 128, 129, 191, 255, 256, 257, 383, 384, 385, 500, 1023, 1024, 1025}
 
-func TestPublishedSums(t *testing.T) {
+// TestKnownSums holds "abc", nothing and keys of 64 bytes against published sums, and the others against what another program, CPython's hashlib, answers.
+func TestKnownSums(t *testing.T) {
 	for _, c := range []struct {
 		size, key int
 		b         []byte

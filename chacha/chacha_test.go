@@ -260,6 +260,7 @@ func TestNoTwoStatesAreMixedToOne(t *testing.T) {
 	}
 }
 
+// TestPublishedBlocks holds blocks against RFC 8439's, and those of noughts with 8 and 12 rounds against the ones that are known of ChaCha8 and ChaCha12.
 func TestPublishedBlocks(t *testing.T) {
 	counts := counted(0)
 	for _, c := range []struct {
@@ -327,8 +328,8 @@ func TestRoundsThatThereAreNot(t *testing.T) {
 	}
 }
 
-// TestPublishedStream is of the key and the nonce of draft-irtf-cfrg-xchacha's appendix A.3.
-func TestPublishedStream(t *testing.T) {
+// TestKnownStream has the key and the nonce of draft-irtf-cfrg-xchacha's appendix A.3; the stream is what another program, golang.org/x/crypto, answers.
+func TestKnownStream(t *testing.T) {
 	nonce := [24]byte(read(t, "404142434445464748494a4b4c4d4e4f5051525354555658"))
 	want := "1131ce9a2a20ae0d67c8935c7789fa1025c9e5bb720fb96f11354fb97af0bd9aadec0863ba60cac8582c48f86cdfc48edd46a48642c5de62ccf11c7b21bf337d" +
 		"29624b4b1b140ace53740e405b2168540fd7d630c1f536fecd722fc3cddba7f4cca98cf9e47e5e64d115450f9b125b54449ff76141ca620a1f9cfcab2a1a8a25" +
