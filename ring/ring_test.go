@@ -173,7 +173,7 @@ func TestReckoningOfTheTests(t *testing.T) {
 	}
 }
 
-// TestExamples are the chapter's; the first one stands also in appendix A of RFC 8452.
+// TestExamples are the chapter's; the first one is meant to stand also in RFC 8452.
 func TestExamples(t *testing.T) {
 	a, b := unhex(t, "66e94bd4ef8a2c3b884cfa59ca342b2e"), unhex(t, "ff000000000000000000000000000000")
 	if got := ring.Times(a, b); got != unhex(t, "37856175e9dc9df26ebc6d6171aa0ae9") {
@@ -296,7 +296,7 @@ func TestDouble(t *testing.T) {
 	}
 }
 
-// TestPublishedDoubles are the subkeys of section 4 of RFC 4493, of which each is the one ahead of it, doubled.
+// TestPublishedDoubles are the subkeys of RFC 4493, of which each is the one ahead of it, doubled.
 func TestPublishedDoubles(t *testing.T) {
 	a := unhex(t, "7df76b0c1ab899b33e42f047b91b546f")
 	first, second := unhex(t, "fbeed618357133667c85e08f7236a8de"), unhex(t, "f7ddac306ae266ccf90bc11ee46d513b")

@@ -171,7 +171,7 @@ func TestReckoningOfTheTests(t *testing.T) {
 	}
 }
 
-// TestExamples are the chapter's; the first one stands also in appendix A of RFC 8452.
+// TestExamples are the chapter's; the first one stands also in RFC 8452.
 func TestExamples(t *testing.T) {
 	h := [16]byte(unhex(t, "25629347589242761d31f826ba4b757b"))
 	b := unhex(t, "4f4f95668c83dfb6401762bb2d01a262 d1a24ddd2721d006bbe45f20d3c9f362")
@@ -186,7 +186,7 @@ func TestExamples(t *testing.T) {
 	}
 }
 
-// TestPublishedValues are of appendix C.1 of RFC 8452.
+// TestPublishedValues are of appendix C of RFC 8452, held against the copy of them in the tests of another program, Tink.
 func TestPublishedValues(t *testing.T) {
 	h := [16]byte(unhex(t, "d9b360279694941ac5dbc6987ada7377"))
 	for _, c := range []struct{ bytes, value string }{
